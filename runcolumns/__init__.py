@@ -1,0 +1,1 @@
+"""Columns of a table kept in runs."""

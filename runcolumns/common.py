@@ -1,0 +1,68 @@
+"""What several files share: tests of plain values, rows, and their distances."""
+
+MOST_WIDTH = 4
+TOP_VALUE = 6
+
+
+def is_number(number, low, high):
+    """Whether this is an integer within the two limits; True and False are none."""
+    return isinstance(number, int) and not isinstance(number, bool) and low <= number <= high
+
+
+def are_numbers(numbers, low, high):
+    """Whether this is a tuple, possibly empty, of integers within the two limits."""
+    return isinstance(numbers, tuple) and all([is_number(number, low, high) for number in numbers])
+
+
+def are_ascending(numbers, low, high):
+    """Whether this is a tuple of integers within the limits, each greater than the one before."""
+    if not are_numbers(numbers, low, high):
+        return False
+    return all([first < second for first, second in zip(numbers, numbers[1:])])
+
+
+def is_row(row):
+    """Whether this is a tuple of one to four values."""
+    return are_numbers(row, 0, TOP_VALUE) and 1 <= len(row) <= MOST_WIDTH
+
+
+def is_order(order, many):
+    """Whether this is a tuple that contains each index below many once."""
+    return are_numbers(order, 0, many - 1) and sorted(order) == list(range(many))
+
+
+def has_boolean(held):
+    """Whether True or False stands in some evidence, where it would be equal to 1 or 0."""
+    if isinstance(held, dict):
+        return has_boolean(list(held.items()))
+    if isinstance(held, (list, tuple)):
+        return any([has_boolean(part) for part in held])
+    return isinstance(held, bool)
+
+
+def differing(one, other):
+    """The number of columns in which two rows differ."""
+    return len([at for at in range(len(one)) if one[at] != other[at]])
+
+
+def distance(one, other, prices):
+    """The sum of the prices of the columns in which two rows differ."""
+    return sum([price for at, price in enumerate(prices) if one[at] != other[at]])
+
+
+def adjacent_distances(rows, prices):
+    """The sum of the distances of all adjacent rows."""
+    return sum([distance(one, other, prices) for one, other in zip(rows, rows[1:])])
+
+
+def without(parts, left_out):
+    """The tuple of the parts other than one of them."""
+    return tuple([part for part in parts if part != left_out])
+
+
+def choices(parts):
+    """All ascending tuples of some of the ascending parts, in order of length, then as tuples."""
+    found = [()]
+    for part in parts:
+        found = found + [choice + (part,) for choice in found]
+    return sorted(sorted(found), key=len)
