@@ -1,6 +1,6 @@
 """Asks for rows, answered by stretches of consecutive rows."""
 
-from runcolumns.common import TOP_VALUE, are_ascending, has_boolean, is_number
+from runcolumns.common import TOP_VALUE, are_ascending, has_boolean, is_number, stretches_in
 from runcolumns.errors import BadAsk
 from runcolumns.tables import check_column, check_columns, check_table
 
@@ -97,15 +97,7 @@ def selected_rows(table, ask):
 
 def stretches_of(table, ask):
     """The list of the stretches of an ask that has been checked."""
-    stretches = []
-    for index, row in enumerate(table.rows):
-        if not selects(row, ask):
-            continue
-        if stretches and stretches[-1][1] == index:
-            stretches[-1] = (stretches[-1][0], index + 1)
-        else:
-            stretches.append((index, index + 1))
-    return stretches
+    return stretches_in([index for index, row in enumerate(table.rows) if selects(row, ask)])
 
 
 def ask_stretches(table, ask):

@@ -21,6 +21,11 @@ def are_ascending(numbers, low, high):
     return all([first < second for first, second in zip(numbers, numbers[1:])])
 
 
+def is_listing(items, least, most):
+    """Whether this is a list or tuple of so many items."""
+    return isinstance(items, (list, tuple)) and least <= len(items) <= most
+
+
 def is_row(row):
     """Whether this is a tuple of one to four values."""
     return are_numbers(row, 0, TOP_VALUE) and 1 <= len(row) <= MOST_WIDTH
@@ -66,3 +71,48 @@ def choices(parts):
     for part in parts:
         found = found + [choice + (part,) for choice in found]
     return sorted(sorted(found), key=len)
+
+
+def stretches_in(indices):
+    """The list of the pairs (first, past) of the neighbours among ascending indices."""
+    found = []
+    for index in indices:
+        if found and found[-1][1] == index:
+            found[-1] = (found[-1][0], index + 1)
+        else:
+            found.append((index, index + 1))
+    return found
+
+
+def picked(many, index):
+    """Which of some parts, with so many members each, an index falls into, and the index within that part."""
+    at = 0
+    while index >= many[at]:
+        index -= many[at]
+        at += 1
+    return at, index
+
+
+def count_ways(before):
+    """For each of some numbered places, how many ways lead there from the first one.
+
+    A way goes on from each place to a later one; before has, for each place, the places right before it.
+    """
+    many = [1]
+    for places in before[1:]:
+        many.append(sum([many[place] for place in places]))
+    return many
+
+
+def way_at(before, index):
+    """The way to the last place with an index, without that place.
+
+    Ways are ordered by the places right before the last one, then by those before these, and so on.
+    """
+    many = count_ways(before)
+    way, place = (), len(before) - 1
+    while place > 0:
+        at, index = picked([many[earlier] for earlier in before[place]], index)
+        place = before[place][at]
+        way = (place,) + way
+    return way

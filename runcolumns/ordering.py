@@ -1,6 +1,6 @@
 """Best orders of the different rows, and ties that connect them."""
 
-from runcolumns.common import adjacent_distances, choices, distance, has_boolean, is_row, without
+from runcolumns.common import choices, distance, has_boolean, is_row, picked, without
 from runcolumns.errors import BadOrder
 from runcolumns.tables import check_few, check_index, check_prices, check_table, different_rows
 
@@ -20,7 +20,7 @@ class Best:
         ways = ways_through(table, prices)
         if has_boolean(self.rest) or self.rest != ways.rest:
             return False
-        return ways.has_best(tuple(self.order))
+        return has_best(ways, tuple(self.order))
 
 
 class Bound:
@@ -52,80 +52,91 @@ def checked_rows(table, prices):
 
 
 class Ways:
-    """The cheapest ways through the ascending different rows of a table.
+    """The cheapest ways through ascending parts, where it is given what going from one to another costs.
 
-    The row None stands for the beginning of an order, from which the first row costs nothing.
+    The part None stands for the beginning of an order, from which going to the first part costs nothing.
     """
 
-    def __init__(self, rows, prices):
-        self.rows = tuple(rows)
-        self.prices = prices
+    def __init__(self, parts, costs):
+        self.parts = tuple(parts)
+        self.costs = costs
         self.rest = {}
         self.many = {}
-        # Shorter tuples come first, so that what is left after one more row is known already.
-        for left in choices(rows):
-            for row in rows:
-                if row not in left:
-                    self.rest[(left, row)] = self.cost_from(row, left)
-                    self.many[(left, row)] = self.count_from(row, left)
+        # Shorter tuples come first, so that what is left after one more part is known already.
+        for left in choices(self.parts):
+            for part in self.parts:
+                if part not in left:
+                    self.rest[(left, part)] = self.cost_from(part, left)
+                    self.many[(left, part)] = self.count_from(part, left)
 
-    def cost_by(self, row, left, then):
-        """The smallest cost of going from a row to one of those left, and through the others."""
+    def cost_by(self, part, left, then):
+        """The smallest cost of going from a part to one of those left, and through the others."""
         further = self.rest[(without(left, then), then)]
-        if row is None:
+        if part is None:
             return further
-        return distance(row, then, self.prices) + further
+        return self.costs[(part, then)] + further
 
-    def cost_from(self, row, left):
-        """The smallest cost of going from a row through all that are left."""
-        return min([self.cost_by(row, left, then) for then in left], default=0)
+    def cost_from(self, part, left):
+        """The smallest cost of going from a part through all that are left."""
+        return min([self.cost_by(part, left, then) for then in left], default=0)
 
-    def nexts(self, row, left):
-        """The ascending list of the rows by which cheapest ways go on from a row."""
-        least = self.cost_from(row, left)
-        return [then for then in left if self.cost_by(row, left, then) == least]
+    def nexts(self, part, left):
+        """The ascending list of the parts by which cheapest ways go on from a part."""
+        least = self.cost_from(part, left)
+        return [then for then in left if self.cost_by(part, left, then) == least]
 
-    def count_by(self, left, thens):
-        """How many cheapest ways go on by one of some rows."""
-        return sum([self.many[(without(left, then), then)] for then in thens])
+    def counts_by(self, left, thens):
+        """The list of how many cheapest ways go on by each of some parts."""
+        return [self.many[(without(left, then), then)] for then in thens]
 
-    def count_from(self, row, left):
-        """How many cheapest ways go from a row through all that are left."""
+    def count_from(self, part, left):
+        """How many cheapest ways go from a part through all that are left."""
         if not left:
             return 1
-        return self.count_by(left, self.nexts(row, left))
+        return sum(self.counts_by(left, self.nexts(part, left)))
+
+    def least_cost(self):
+        """The cost of a best order."""
+        return self.cost_from(None, self.parts)
+
+    def count_best(self):
+        """How many best orders there are."""
+        return self.count_from(None, self.parts)
 
     def order_at(self, index):
         """The best order with an index."""
-        order, row, left = (), None, self.rows
+        order, part, left = (), None, self.parts
         while left:
-            nexts = self.nexts(row, left)
-            passed = [at for at in range(len(nexts)) if self.count_by(left, nexts[:at + 1]) <= index]
-            index -= self.count_by(left, nexts[:len(passed)])
-            row = nexts[len(passed)]
-            order, left = order + (row,), without(left, row)
+            nexts = self.nexts(part, left)
+            at, index = picked(self.counts_by(left, nexts), index)
+            part = nexts[at]
+            order, left = order + (part,), without(left, part)
         return order
 
     def index_of(self, order):
         """The index of a best order."""
-        index, row, left = 0, None, self.rows
+        index, part, left = 0, None, self.parts
         for then in order:
-            index += self.count_by(left, [other for other in self.nexts(row, left) if other < then])
-            row, left = then, without(left, then)
+            index += sum(self.counts_by(left, [other for other in self.nexts(part, left) if other < then]))
+            part, left = then, without(left, then)
         return index
 
-    def has_best(self, order):
-        """Whether this is a tuple that is a best order."""
-        if not isinstance(order, tuple) or not all([is_row(row) for row in order]):
-            return False
-        if sorted(order) != list(self.rows):
-            return False
-        return adjacent_distances(order, self.prices) == self.cost_from(None, self.rows)
+    def is_best(self, order):
+        """Whether an order of all parts is a best order."""
+        return sum([self.costs[(one, other)] for one, other in zip(order, order[1:])]) == self.least_cost()
 
 
 def ways_through(table, prices):
     """The cheapest ways through the different rows, if the arguments are right."""
-    return Ways(checked_rows(table, prices), prices)
+    rows = checked_rows(table, prices)
+    return Ways(rows, {(one, other): distance(one, other, prices) for one in rows for other in rows})
+
+
+def has_best(ways, order):
+    """Whether this is a tuple that is a best order of the rows."""
+    if not isinstance(order, tuple) or not all([is_row(row) for row in order]):
+        return False
+    return sorted(order) == list(ways.parts) and ways.is_best(order)
 
 
 def best_order(table, prices):
@@ -136,27 +147,25 @@ def best_order(table, prices):
 
 def least_changes(table, prices):
     """What the changes of a best order cost."""
-    ways = ways_through(table, prices)
-    return ways.cost_from(None, ways.rows)
+    return ways_through(table, prices).least_cost()
 
 
 def count_best(table, prices):
     """How many best orders there are."""
-    ways = ways_through(table, prices)
-    return ways.count_from(None, ways.rows)
+    return ways_through(table, prices).count_best()
 
 
 def nth_best(table, prices, index):
     """The best order with an index."""
     ways = ways_through(table, prices)
-    check_index(index, ways.count_from(None, ways.rows) - 1)
+    check_index(index, ways.count_best() - 1)
     return ways.order_at(index)
 
 
 def best_index(table, prices, order):
     """The index of a best order."""
     ways = ways_through(table, prices)
-    if not ways.has_best(order):
+    if not has_best(ways, order):
         raise BadOrder("not a best order")
     return ways.index_of(order)
 

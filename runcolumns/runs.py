@@ -1,8 +1,8 @@
 """Runs of columns, and what they cost."""
 
-from runcolumns.common import TOP_VALUE, differing, is_number
+from runcolumns.common import TOP_VALUE, differing, is_listing, is_number
 from runcolumns.errors import BadRuns
-from runcolumns.tables import MOST_ROWS, Table, check_index, check_prices, check_table
+from runcolumns.tables import MOST_ROWS, Table, check_index, check_prices, check_table, checked_column
 
 MOST_COLUMNS = 4
 
@@ -20,8 +20,7 @@ def runs_of_values(values):
 
 def runs_of(table, c):
     """The list of the runs of a column."""
-    check_table(table)
-    return runs_of_values(table.column(c))
+    return runs_of_values(checked_column(table, c))
 
 
 def all_runs(table):
@@ -57,7 +56,7 @@ def is_run(run):
 
 def are_runs(runs):
     """Whether these are the runs of a column."""
-    if not isinstance(runs, (list, tuple)) or not runs or not all([is_run(run) for run in runs]):
+    if not is_listing(runs, 1, MOST_ROWS) or not all([is_run(run) for run in runs]):
         return False
     if any([first[0] == second[0] for first, second in zip(runs, runs[1:])]):
         return False
@@ -96,7 +95,7 @@ def value_at(runs, index):
 
 def table_of(columns):
     """The table whose columns have these runs."""
-    if not isinstance(columns, (list, tuple)) or not 1 <= len(columns) <= MOST_COLUMNS:
+    if not is_listing(columns, 1, MOST_COLUMNS):
         raise BadRuns(None)
     for index, runs in enumerate(columns):
         if not are_runs(runs) or count_rows(runs) != count_rows(columns[0]):

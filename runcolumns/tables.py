@@ -1,6 +1,6 @@
 """Tables, and the tests of arguments that belong to a table."""
 
-from runcolumns.common import TOP_VALUE, are_ascending, are_numbers, is_number, is_order, is_row
+from runcolumns.common import TOP_VALUE, are_ascending, are_numbers, is_listing, is_number, is_order, is_row
 from runcolumns.errors import BadColumn, BadIndex, BadOrder, BadPrices, BadRow, BadRows, BadTable, TooLarge
 
 MOST_ROWS = 10
@@ -12,7 +12,7 @@ class Table:
     """One to ten rows, in an order; a table never changes."""
 
     def __init__(self, rows):
-        if not isinstance(rows, (list, tuple)) or not 1 <= len(rows) <= MOST_ROWS:
+        if not is_listing(rows, 1, MOST_ROWS):
             raise BadRows(None)
         for index, row in enumerate(rows):
             if not is_row(row) or len(row) != len(rows[0]):
@@ -91,6 +91,19 @@ def check_columns(table, columns):
     """Raise BadColumn if this is no ascending tuple, possibly empty, of columns of the table."""
     if not are_ascending(columns, 0, table.width - 1):
         raise BadColumn("not an ascending tuple of columns of the table")
+
+
+def check_some_columns(table, columns):
+    """Raise BadColumn if this is no ascending tuple of one or more columns of the table."""
+    check_columns(table, columns)
+    if not columns:
+        raise BadColumn("no columns")
+
+
+def checked_column(table, c):
+    """The list of the values of a column, if the arguments are right."""
+    check_table(table)
+    return table.column(c)
 
 
 def check_row(table, row):

@@ -2,10 +2,11 @@
 
 import copy
 import doctest
+import random
 import reprlib
 import unittest
 
-from tests.samples import ODD_OBJECTS, Rough
+from tests.samples import HUGE, ODD_OBJECTS, Rough
 
 
 class Case(unittest.TestCase):
@@ -37,6 +38,26 @@ class Case(unittest.TestCase):
                 behind = [argument[2][0] for argument in arguments[at + 1:]]
                 self.refused(error, call, *right[:at], wrong, *behind)
         self.assertEqual(right, before)
+
+    def check_dict(self, shows, right, strangers):
+        """Check that a dict is shown in any order, and only with just its keys and values.
+
+        The strangers are keys that it has not.
+        """
+        names = list(right)
+        random.Random(1).shuffle(names)
+        for order in (list(right), names, names[::-1]):
+            self.assertTrue(shows({name: right[name] for name in order}))
+        for name in right:
+            self.assertFalse(shows({other: right[other] for other in right if other != name}), name)
+            for wrong in (right[name] - 1, right[name] + 1, HUGE, -HUGE):
+                self.assertFalse(shows({**right, name: wrong}), (name, wrong))
+            if right[name] in (0, 1):
+                self.assertFalse(shows({**right, name: bool(right[name])}), name)
+        for name in strangers:
+            self.assertNotIn(name, right)
+            for number in (0, 1, 2):
+                self.assertFalse(shows({**right, name: number}), name)
 
     def check_equality(self, *makers):
         """Check that objects of one maker are equal, and that they are equal to nothing else."""

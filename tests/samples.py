@@ -41,6 +41,9 @@ NO_TABLES = [odd for odd in ODD_OBJECTS if not isinstance(odd, Table)] + [0, 1, 
 ODD_ITEMS = [None, True, False, "", "0", [], [0], {}, set(), object(), Alike(), Rough(), -1, HUGE, -HUGE]
 
 
+NO_LISTINGS = [odd for odd in ODD_OBJECTS if not isinstance(odd, (list, tuple))] + [0, 1, -1, HUGE, -HUGE]
+
+
 def wrong_numbers(low, high):
     """What is not an integer from low to high."""
     return NO_NUMBERS + [low - 1, high + 1] if low <= 0 else NO_NUMBERS + [low - 1, high + 1, 0]
@@ -72,6 +75,19 @@ def wrong_columns(width):
     if width > 1:
         wrong += [(1, 0), right[::-1], right + right, (0, 1, 1), (1, True), (False, 1)]
     return wrong + [(item,) for item in ODD_ITEMS + [(), (0,)]] + [(0, item) for item in ODD_ITEMS]
+
+
+def wrong_places(width):
+    """What is not an ascending tuple of one or more columns."""
+    return wrong_columns(width) + [()]
+
+
+def wrong_counts():
+    """What is not a list or tuple of one to seven integers of at least 1, with a sum of at most 12."""
+    wrong = [(), (1,) * 8, (13,), (6, 7), (2,) * 7, (HUGE,), (1, HUGE), (0,), (1, 0), (0, 1, 1), (3, -1, 2), ((1, 2),)]
+    wrong += [right[:at] + (item,) + right[at:] for right in ((), (2, 1)) for at in range(len(right) + 1)
+              for item in ODD_ITEMS + [(), (1,), 0, 13, "1", b"1", 12 ** 30]]
+    return NO_LISTINGS + [[], [[]]] + wrong + [list(counts) for counts in wrong]
 
 
 def wrong_orders(many):

@@ -16,14 +16,15 @@ TREES = {name: ast.parse(text) for name, text in FILES.items()}
 NODES = set("""
 Module Expr Constant ImportFrom alias FunctionDef ClassDef arguments arg Return Assign AugAssign If While For Continue
 Raise With withitem Name Attribute Call keyword Subscript Slice Tuple List Dict ListComp SetComp DictComp comprehension
-Lambda Compare BoolOp UnaryOp BinOp Load Store Add Sub Mult FloorDiv Mod BitAnd And Or Not USub
+Lambda IfExp JoinedStr FormattedValue Compare BoolOp UnaryOp BinOp Load Store Add Sub Mult FloorDiv Mod BitAnd And Or Not USub
 Eq NotEq Lt LtE Gt GtE In NotIn Is IsNot
 """.split())
 BUILTINS = set("""
 len range enumerate zip min max sum abs sorted reversed int str bool list tuple dict set isinstance any all super
 property ValueError TypeError
 """.split())
-METHODS = set("append copy count extend get index insert items keys pop remove values".split())
+METHODS = set("append copy count extend get index insert items join keys partition pop remove split values".split())
+LIBRARY = {"comb", "gcd"}
 DOUBLE = {"__init__", "__eq__", "__len__", "__enter__", "__exit__", "__iter__", "__getitem__"}
 BARRED_NAMES = set("""
 register mro elements open input law version_info with_traceback add_note attrgetter breakpoint builtins compile
@@ -74,6 +75,25 @@ def defined_in(tree):
     return found
 
 
+TAKES = {"list", "tuple", "dict", "sorted", "sum", "any", "all", "enumerate", "zip", "min", "max"}
+TAKES_RANGES = TAKES | {"len", "reversed"}
+
+
+def is_call(node, names):
+    return isinstance(node, ast.Call) and isinstance(node.func, ast.Name) and node.func.id in names
+
+
+def is_iterated(node):
+    """Whether this is a range, a zip, a view or the like."""
+    if isinstance(node, ast.Call) and isinstance(node.func, ast.Attribute):
+        return node.func.attr in ("items", "values", "keys") and not node.args
+    return is_call(node, {"range", "zip", "enumerate", "reversed"})
+
+
+def is_kept_range(node, above):
+    return is_call(node, {"range"}) and isinstance(above[node], ast.Assign) and above[node].value is node
+
+
 class FilesTest(unittest.TestCase):
 
     def test_folder(self):
@@ -97,9 +117,12 @@ class FilesTest(unittest.TestCase):
             self.assertIn(node, TREES[name].body)
             self.assertEqual(node.level, 0)
             package, _, file = node.module.partition(".")
-            self.assertEqual(package, "runcolumns")
             for alias in node.names:
                 self.assertIsNone(alias.asname)
+                if node.module == "math":
+                    self.assertIn(alias.name, LIBRARY)
+                    continue
+                self.assertEqual(package, "runcolumns")
                 own = [held for held in TREES[file].body if not isinstance(held, ast.ImportFrom)]
                 self.assertIn(alias.name, defined_in(ast.Module(own, [])), f"{name} imports {alias.name}")
                 used = [held for held in ast.walk(TREES[name]) if isinstance(held, ast.Name) and held.id == alias.name]
@@ -108,7 +131,8 @@ class FilesTest(unittest.TestCase):
     def test_no_ring_of_imports(self):
         needs = {name: set() for name in FILES}
         for name, node in nodes(ast.ImportFrom):
-            needs[name].add(node.module.partition(".")[2])
+            if node.module != "math":
+                needs[name].add(node.module.partition(".")[2])
         while needs:
             free = [name for name in needs if not needs[name] & set(needs)]
             self.assertTrue(free, f"these import each other: {sorted(needs)}")
@@ -222,6 +246,45 @@ class UsesTest(unittest.TestCase):
             if isinstance(node.value, str):
                 self.assertNotIn("%", node.value, name)
                 self.assertNotIn("\\", node.value, name)
+
+    def test_what_is_iterated_over_is_so_at_once(self):
+        for name, tree in TREES.items():
+            above = {below: node for node in ast.walk(tree) for below in ast.iter_child_nodes(node)}
+            for node in ast.walk(tree):
+                if is_iterated(node) and not self.is_at_once(node, above[node]):
+                    self.assertTrue(is_kept_range(node, above), f"{name}, line {node.lineno}")
+
+    def is_at_once(self, node, parent):
+        """Whether a node stands where it is iterated over."""
+        if isinstance(parent, (ast.For, ast.comprehension)):
+            return parent.iter is node
+        if isinstance(parent, ast.Call) and isinstance(parent.func, ast.Name):
+            takes = TAKES_RANGES if is_call(node, {"range"}) or isinstance(node, ast.Name) else TAKES
+            return parent.func.id in takes and parent.args[0] is node
+        return False
+
+    def test_kept_ranges_are_only_iterated_over(self):
+        for name, function in functions():
+            above = {below: node for node in ast.walk(function) for below in ast.iter_child_nodes(node)}
+            stored = [node for node in ast.walk(function) if isinstance(node, ast.Name) and isinstance(node.ctx, ast.Store)]
+            for node in stored:
+                if isinstance(above[node], ast.Assign) and is_call(above[node].value, {"range"}):
+                    self.assertEqual([held.id for held in stored].count(node.id), 1, name)
+                    for held in ast.walk(function):
+                        if isinstance(held, ast.Name) and held.id == node.id and isinstance(held.ctx, ast.Load):
+                            self.assertTrue(self.is_at_once(held, above[held]), f"{name}, line {held.lineno}")
+
+    def test_library_names_are_only_called(self):
+        for name, tree in TREES.items():
+            above = {below: node for node in ast.walk(tree) for below in ast.iter_child_nodes(node)}
+            for node in ast.walk(tree):
+                if isinstance(node, ast.Name) and node.id in LIBRARY:
+                    self.assertTrue(isinstance(above[node], ast.Call) and above[node].func is node, name)
+                    self.assertFalse(above[node].keywords, name)
+
+    def test_exponents(self):
+        for name, node in nodes(ast.BinOp):
+            self.assertNotIsInstance(node.op, (ast.Pow, ast.Div, ast.LShift), f"{name}, line {node.lineno}")
 
     def test_loops_do_not_change_what_they_go_over(self):
         for name, loop in nodes(ast.For):
