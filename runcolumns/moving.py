@@ -17,7 +17,7 @@ class Kept:
     def shows(self, table, place):
         """Whether the rows can stay together, and as many piles have each row once and decrease."""
         values = checked_column(table, place)
-        stays, piles = tuple(self.stays), [tuple(pile) for pile in self.piles]
+        stays, piles = tuple(self.stays), self.piles
         if not are_ascending(stays, 0, len(values) - 1) or len(stays) != len(piles):
             return False
         if not all([values[one] <= values[other] for one, other in zip(stays, stays[1:])]):

@@ -20,8 +20,6 @@ class Sorts:
 
     def shows(self, table, prices):
         """Whether the dict has the costs for all orders, and the order has the smallest of them."""
-        check_table(table)
-        check_prices(table, prices)
         sums = sorted_costs(table, prices)
         if has_boolean(list(self.sums.items())) or self.sums != sums:
             return False
@@ -71,13 +69,13 @@ def beginnings(table, places):
 
 def sorted_costs(table, prices):
     """The dict from all orders of the columns to the cost of all runs when the rows are sorted by them."""
+    check_table(table)
+    check_prices(table, prices)
     return {places: cost(sorted_table(table, places), prices) for places in orders_of(all_columns(table))}
 
 
 def best_sort(table, prices):
     """A Sorts with the first order of the columns that has the smallest cost."""
-    check_table(table)
-    check_prices(table, prices)
     sums = sorted_costs(table, prices)
     least = min(list(sums.values()))
     return Sorts([places for places in sums if sums[places] == least][0], sums)

@@ -215,7 +215,7 @@ def words_made(many, sets):
         found[rows] = ("and", ("set", 0), ("not", ("set", 0)))
         if some:
             found[rows] = joined_words("or", [atoms[atom] for atom in some])
-    return {rows: found[rows] for rows in sorted(sorted(list(found)), key=len)}
+    return {made: found[made] for made in sorted(sorted(list(found)), key=len)}
 
 
 def made_of(many, sets):

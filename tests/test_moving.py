@@ -141,10 +141,14 @@ class KeptTest(Case):
         for piles in wrong:
             self.assertFalse(Kept((1, 2, 3), piles).shows(TABLE, 0), piles)
         self.assertTrue(Kept((1, 2, 3), [(0, 1), (2, 4), (3,)]).shows(TABLE, 0))
+        self.assertFalse(Kept((0,), [(1, 0)]).shows(column(0, 1), 0))
+        self.assertFalse(Kept((1,), [[1, 0]]).shows(column(0, 1), 0))
+        self.assertFalse(Kept((0, 1), [(2, 0), (1,)]).shows(column(0, 0, 5), 0))
 
     def test_only_the_right_rows(self):
         piles = [(0, 1, 4), (2,), (3,)]
         wrong = [(), (1, 2), (1, 3, 2), (0, 1, 2), (1, 2, 2), (1, 2, 4), (1, 2, 5), (-4, 2, 3), (True, 2, 3), (1, 2, 3, 3)]
+        wrong += [(-1, 2, 3), (-2, -1, 3), (-3, 3)]
         for stays in wrong + [(1, 2, HUGE), (2, 3), (0, 2, 3), (3, 2, 1)]:
             self.assertFalse(Kept(stays, piles).shows(TABLE, 0), stays)
         self.assertFalse(Kept((1, 2), [(0, 1, 4), (2, 3)]).shows(TABLE, 0))

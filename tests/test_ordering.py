@@ -167,6 +167,8 @@ class BestOrdersTest(Case):
         found = best_order(CORNERS, (1, 1))
         found.order = ((0, 0), (1, 1), (0, 1))
         self.assertFalse(found.shows(CORNERS, (1, 1)))
+        found.order = [(1, 1), (0, 1), (0, 0)]
+        self.assertTrue(found.shows(CORNERS, (1, 1)))
         found = best_order(CORNERS, (1, 1))
         found.rest.popitem()
         self.assertFalse(found.shows(CORNERS, (1, 1)))

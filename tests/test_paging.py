@@ -124,6 +124,10 @@ class PagesTest(Case):
         self.assertFalse(Pages((0, 1, 2), (0, 1, 2)).shows(TABLE, 3))
         self.assertFalse(Pages((0, 2), (1, 3)).shows(TABLE, 4))
         self.assertFalse(Pages((0, 2), (1, 3)).shows(TABLE, 2))
+        pair = Table([(0, 0), (0, 1)])
+        self.assertTrue(Pages((0, 1), (0, 1)).shows(pair, 2))
+        for marks in [(-1, 1), (-2, 1), (1, 2), (-1, 0)]:
+            self.assertFalse(Pages((0, 1), marks).shows(pair, 2), marks)
         self.assertTrue(Pages((0,), (3,)).shows(TABLE, 40))
         self.assertFalse(Pages((0,), (4,)).shows(TABLE, 40))
         self.assertFalse(Pages((0,), ()).shows(TABLE, 40))
@@ -138,6 +142,12 @@ class PagesTest(Case):
         found = cut(TABLE, 3)
         found.cuts = [0, 3]
         self.assertFalse(found.shows(TABLE, 3))
+
+    def test_forty_runs(self):
+        table = Table([(0, 1, 2, 3), (3, 2, 1, 0)] * 5)
+        self.assertEqual([least_most(table, pages) for pages in (1, 2, 9, 10)], [40, 20, 8, 4])
+        self.assertEqual([fewest_pages(table, most) for most in (40, 39, 20, 19, 4)], [1, 2, 2, 3, 10])
+        self.assertEqual((least_total(table, 1), least_total(table, 10), runs_between(table, 0, 10)), (40, 40, 40))
 
     def test_runs_of_pages(self):
         for table in TABLES:
@@ -186,6 +196,10 @@ class TotalsTest(Case):
         self.assertFalse(Totals((0, 1), sums).shows(TABLE, 1))
         self.assertFalse(Totals((0, 1), all_sums(TABLE, 3)).shows(TABLE, 2))
         self.assertFalse(Totals((0, 1), {}).shows(TABLE, 2))
+        same = Table([(5, 5)] * 4)
+        for cuts in [(0, 4), (0, 5), (0, 0), (1, 2), (0, -1), (2, 1)]:
+            self.assertFalse(Totals(cuts, all_sums(same, 2)).shows(same, 2), cuts)
+        self.assertTrue(Totals((0, 3), all_sums(same, 2)).shows(same, 2))
 
     def test_current_attributes_are_judged(self):
         found = cut_totals(TABLE, 2)

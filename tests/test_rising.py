@@ -130,6 +130,9 @@ class RisingTest(Case):
         self.assertEqual((count_crossing(twice, (0, 1)), fewest_rising(twice, (0, 1))), (4, 2))
         self.assertTrue(Risen([(2, 0), (3, 1)], (1, 2)).shows(twice, (0, 1)))
         self.assertFalse(Risen([(2, 0), (3, 1)], (0, 2)).shows(twice, (0, 1)))
+        for one, other in [(-1, 0), (0, -1), (-2, 1), (0, 5), (4, 0)]:
+            self.assertFalse(Crossing(one, other).shows(twice, (0, 1)), (one, other))
+            self.assertFalse(Risen([(2, 0), (3, 1)], (one, other)).shows(twice, (0, 1)), (one, other))
 
 
 class RisenTest(Case):
@@ -229,7 +232,8 @@ class RisingErrorsTest(Case):
     def test_equal(self):
         self.check_equality(
             lambda: Rising([0, 1]), lambda: Rising((1, 0)), lambda: Crossing(0, 1), lambda: Crossing(1, 0),
-            lambda: Crossing(0, 2), lambda: Risen([(0,)], (0,)), lambda: Risen([[0], [1]], (0,)), lambda: Risen([(0,)], ()),
+            lambda: Crossing(0, 2), lambda: Crossing(2, 1), lambda: Risen([(0,)], (0,)),
+            lambda: Risen([[0], [1]], (0,)), lambda: Risen([(0,)], ()),
         )
         self.assertEqual(Risen([[0, 1]], [0]), Risen(((0, 1),), (0,)))
         self.assertEqual(cut_rising(TABLE, (0, 1)), cut_rising(TABLE, (0, 1)))

@@ -208,7 +208,8 @@ class SpreadingErrorsTest(Case):
 
     def test_wrong_columns(self):
         wrong = NO_TUPLES + [(), (1,), (0, 2), (2, 1), (0, 1, 3), (0,) * 13, (0, 7), (7,), (-1, 0), (0, HUGE), (0, -1)]
-        wrong += [[0, 1], (0, 0, 2, 2), (0, 1, 2, 3, 4, 5, 7), (6,) * 12, (False,), (0, True), ((0,), 1), (0,) * 100000]
+        wrong += [[0, 1], (0, 0, 2, 2), (0, 1, 2, 3, 4, 5, 7), (0, 1, 2, 3, 4, 5, 6, 7)]
+        wrong += [(6,) * 12, (False,), (0, True), ((0,), 1), (0,) * 100000]
         wrong += [(0, item) for item in ODD_ITEMS] + [(item,) for item in ODD_ITEMS]
         for right in ((0,), (0,) * 12, (6, 5, 4, 3, 2, 1, 0), (1, 0)):
             self.check_arguments(spread_index, (right, BadCounts, wrong))

@@ -172,6 +172,15 @@ class ReachedTest(Case):
         for wrong in [(), (0,), (0, 2, 4), (2, 0), (0, 2, 2), (0, 3, 2), (-1, 1), (HUGE, 0), (0, HUGE), (False, 2), (0, 4)]:
             self.assertFalse(Reached(wrong, (0, 1, 3)).shows("and", 4, 2, 2), wrong)
             self.assertFalse(Reached((0, 1, 3), wrong).shows("and", 4, 2, 2), wrong)
+        self.assertTrue(Reached((0, 2), (0, 2)).shows("and", 4, 2, 2))
+        for wrong in [(2, 0), (0, 0, 2), (False, 2), (0, 2, 2), (2, 0, 2)]:
+            self.assertFalse(Reached(wrong, (0, 2)).shows("and", 4, 2, 2), wrong)
+            self.assertFalse(Reached((0, 2), wrong).shows("and", 4, 2, 2), wrong)
+            self.assertFalse(Reached(wrong, wrong).shows("and", 4, 2, 2), wrong)
+        for wrong in [(0, 4), (-1, 1), (0, HUGE)]:
+            self.assertFalse(Reached(wrong, wrong).shows("and", 4, 2, 2), wrong)
+        self.assertFalse(Reached((0,), (4,)).shows("or", 4, 1, 1))
+        self.assertFalse(Reached((-2,), (3,)).shows("or", 4, 1, 1))
         self.assertFalse(Reached((0, 2, 3), (0, 1, 3)).shows("and", 5, 2, 2))
         self.assertFalse(Reached((0, 2, 3), (0, 1, 3)).shows("and", 4, 2, 1))
         self.assertFalse(Reached((0, 2, 3), (0, 1, 3)).shows("or", 4, 2, 2))
@@ -233,7 +242,8 @@ class MadeTest(Case):
         wrong += [("or", one, item) for item in ODD_ITEMS] + [(item, one) for item in ODD_ITEMS]
         wrong += [(item, one, one) for item in ODD_ITEMS] + [("set", item) for item in ODD_ITEMS]
         for word in wrong:
-            self.check_word((0,), word, False)
+            for some in self.right():
+                self.check_word(some, word, False)
 
     def test_deep_words(self):
         word = ("set", 0)
