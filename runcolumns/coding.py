@@ -23,7 +23,7 @@ class Code:
     def shows(self, values, asks):
         """Whether the dict has all greatest gains, and the order is a best code."""
         ways = ways_of_codes(values, asks)
-        if has_boolean(list(self.gains.items())) or self.gains != greatest_gains(ways):
+        if has_boolean(list(self.gains.items())) or self.gains != ways.greatest_rest():
             return False
         return is_best_code(ways, tuple(self.order))
 
@@ -58,32 +58,27 @@ def gain(asks, one, other):
 
 
 def ways_of_codes(values, asks):
-    """The ways through all values, cheapest where they gain most, if the arguments are right."""
+    """All ways through the values, with the sums of what neighbours gain, if the arguments are right."""
     check_asks(values, asks)
     every = list(range(values))
-    return Ways(every, {(one, other): -gain(asks, one, other) for one in every for other in every})
-
-
-def greatest_gains(ways):
-    """The dict from all pairs of a tuple of values and a value to the greatest gains."""
-    return {key: -ways.rest[key] for key in ways.rest}
+    return Ways(every, {(one, other): gain(asks, one, other) for one in every for other in every})
 
 
 def is_best_code(ways, order):
     """Whether this is a tuple that is a best code."""
-    return is_order(order, len(ways.parts)) and ways.is_best(order)
+    return is_order(order, len(ways.parts)) and ways.sum_of(order) == ways.greatest()
 
 
 def best_code(values, asks):
     """A Code with the first best code."""
     ways = ways_of_codes(values, asks)
-    return Code(ways.order_at(0), greatest_gains(ways))
+    return Code(ways.order_at(ways.greatest(), 0), ways.greatest_rest())
 
 
 def least_stretches(values, asks):
     """What the stretches of all asks cost by a best code."""
     ways = ways_of_codes(values, asks)
-    return sum([price * len(asked) for asked, price in asks]) + ways.least_cost()
+    return sum([price * len(asked) for asked, price in asks]) - ways.greatest()
 
 
 def asked_stretches(values, asks, order):
@@ -114,14 +109,15 @@ def alike(values, asks):
 
 def count_codes(values, asks):
     """How many best codes there are."""
-    return ways_of_codes(values, asks).count_best()
+    ways = ways_of_codes(values, asks)
+    return ways.orders[ways.greatest()]
 
 
 def nth_code(values, asks, index):
     """The best code with an index."""
     ways = ways_of_codes(values, asks)
-    check_index(index, ways.count_best() - 1)
-    return ways.order_at(index)
+    check_index(index, ways.orders[ways.greatest()] - 1)
+    return ways.order_at(ways.greatest(), index)
 
 
 def code_index(values, asks, order):

@@ -1,5 +1,7 @@
 """What several files share: tests of plain values, rows, and their distances."""
 
+from math import gcd
+
 MOST_WIDTH = 4
 TOP_VALUE = 6
 
@@ -58,6 +60,12 @@ def distance(one, other, prices):
 def adjacent_distances(rows, prices):
     """The sum of the distances of all adjacent rows."""
     return sum([distance(one, other, prices) for one, other in zip(rows, rows[1:])])
+
+
+def lowest_terms(numerator, denominator):
+    """The pair of a numerator and a denominator, both without what divides both."""
+    shared = gcd(numerator, denominator)
+    return numerator // shared, denominator // shared
 
 
 def without(parts, left_out):

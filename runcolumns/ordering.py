@@ -18,9 +18,9 @@ class Best:
     def shows(self, table, prices):
         """Whether the dict has all smallest costs, and the order is a best order."""
         ways = ways_through(table, prices)
-        if has_boolean(self.rest) or self.rest != ways.rest:
+        if has_boolean(self.rest) or self.rest != ways.least_rest():
             return False
-        return has_best(ways, tuple(self.order))
+        return has_sum(ways, tuple(self.order), ways.least())
 
 
 class Bound:
@@ -52,120 +52,136 @@ def checked_rows(table, prices):
 
 
 class Ways:
-    """The cheapest ways through ascending parts, where it is given what going from one to another costs.
+    """All ways through ascending parts, where it is given what going from one part to another adds to a sum.
 
-    The part None stands for the beginning of an order, from which going to the first part costs nothing.
+    many has, for each pair of an ascending tuple of parts and a part that is not in it, a dict from the sums of the
+    ways from this part through all others, each once, to how many of them have these sums. orders is the like for
+    orders of all parts.
     """
 
-    def __init__(self, parts, costs):
+    def __init__(self, parts, steps):
         self.parts = tuple(parts)
-        self.costs = costs
-        self.rest = {}
+        self.steps = steps
         self.many = {}
         # Shorter tuples come first, so that what is left after one more part is known already.
         for left in choices(self.parts):
             for part in self.parts:
                 if part not in left:
-                    self.rest[(left, part)] = self.cost_from(part, left)
-                    self.many[(left, part)] = self.count_from(part, left)
+                    self.many[(left, part)] = self.many_from(part, left)
+        self.orders = self.many_from(None, self.parts)
 
-    def cost_by(self, part, left, then):
-        """The smallest cost of going from a part to one of those left, and through the others."""
-        further = self.rest[(without(left, then), then)]
+    def step(self, part, then):
+        """What going from one part to another adds; None stands for the beginning of an order, which adds nothing."""
         if part is None:
-            return further
-        return self.costs[(part, then)] + further
+            return 0
+        return self.steps[(part, then)]
 
-    def cost_from(self, part, left):
-        """The smallest cost of going from a part through all that are left."""
-        return min([self.cost_by(part, left, then) for then in left], default=0)
-
-    def nexts(self, part, left):
-        """The ascending list of the parts by which cheapest ways go on from a part."""
-        least = self.cost_from(part, left)
-        return [then for then in left if self.cost_by(part, left, then) == least]
-
-    def counts_by(self, left, thens):
-        """The list of how many cheapest ways go on by each of some parts."""
-        return [self.many[(without(left, then), then)] for then in thens]
-
-    def count_from(self, part, left):
-        """How many cheapest ways go from a part through all that are left."""
+    def many_from(self, part, left):
+        """The dict from the sums of the ways from a part through all that are left to how many have them."""
         if not left:
-            return 1
-        return sum(self.counts_by(left, self.nexts(part, left)))
+            return {0: 1}
+        found = {}
+        for then in left:
+            step = self.step(part, then)
+            for further, many in self.many[(without(left, then), then)].items():
+                found[step + further] = found.get(step + further, 0) + many
+        return found
 
-    def least_cost(self):
-        """The cost of a best order."""
-        return self.cost_from(None, self.parts)
+    def many_by(self, part, left, total):
+        """For each part that is left, how many of the ways with a sum go on with it."""
+        return [self.many[(without(left, then), then)].get(total - self.step(part, then), 0) for then in left]
 
-    def count_best(self):
-        """How many best orders there are."""
-        return self.count_from(None, self.parts)
+    def least(self):
+        """The least sum of all orders."""
+        return min(list(self.orders))
 
-    def order_at(self, index):
-        """The best order with an index."""
+    def greatest(self):
+        """The greatest sum of all orders."""
+        return max(list(self.orders))
+
+    def least_rest(self):
+        """The dict from all pairs of a tuple of parts and a part to the least sums of the ways from it."""
+        return {pair: min(list(self.many[pair])) for pair in self.many}
+
+    def greatest_rest(self):
+        """The dict from all pairs of a tuple of parts and a part to the greatest sums of the ways from it."""
+        return {pair: max(list(self.many[pair])) for pair in self.many}
+
+    def sum_of(self, order):
+        """The sum of an order of all parts."""
+        return sum([self.step(part, then) for part, then in zip(order, order[1:])])
+
+    def order_at(self, total, index):
+        """The order with an index among those with a sum."""
         order, part, left = (), None, self.parts
         while left:
-            nexts = self.nexts(part, left)
-            at, index = picked(self.counts_by(left, nexts), index)
-            part = nexts[at]
+            at, index = picked(self.many_by(part, left, total), index)
+            total -= self.step(part, left[at])
+            part = left[at]
             order, left = order + (part,), without(left, part)
         return order
 
     def index_of(self, order):
-        """The index of a best order."""
-        index, part, left = 0, None, self.parts
+        """The index of an order among those with its sum."""
+        total, index, part, left = self.sum_of(order), 0, None, self.parts
         for then in order:
-            index += sum(self.counts_by(left, [other for other in self.nexts(part, left) if other < then]))
+            index += sum(self.many_by(part, left, total)[:left.index(then)])
+            total -= self.step(part, then)
             part, left = then, without(left, then)
         return index
 
-    def is_best(self, order):
-        """Whether an order of all parts is a best order."""
-        return sum([self.costs[(one, other)] for one, other in zip(order, order[1:])]) == self.least_cost()
+
+def distances(rows, prices):
+    """The dict from all pairs of rows to their distances."""
+    return {(one, other): distance(one, other, prices) for one in rows for other in rows}
 
 
 def ways_through(table, prices):
-    """The cheapest ways through the different rows, if the arguments are right."""
+    """All ways through the different rows, with the sums of their distances, if the arguments are right."""
     rows = checked_rows(table, prices)
-    return Ways(rows, {(one, other): distance(one, other, prices) for one in rows for other in rows})
+    return Ways(rows, distances(rows, prices))
 
 
-def has_best(ways, order):
-    """Whether this is a tuple that is a best order of the rows."""
+def is_order_of(rows, order):
+    """Whether this is a tuple that contains each of the ascending rows once."""
     if not isinstance(order, tuple) or not all([is_row(row) for row in order]):
         return False
-    return sorted(order) == list(ways.parts) and ways.is_best(order)
+    return sorted(order) == list(rows)
+
+
+def has_sum(ways, order, total):
+    """Whether this is a tuple that is an order of the rows with a sum."""
+    return is_order_of(ways.parts, order) and ways.sum_of(order) == total
 
 
 def best_order(table, prices):
     """A Best with the first best order."""
     ways = ways_through(table, prices)
-    return Best(ways.order_at(0), ways.rest)
+    return Best(ways.order_at(ways.least(), 0), ways.least_rest())
 
 
 def least_changes(table, prices):
     """What the changes of a best order cost."""
-    return ways_through(table, prices).least_cost()
+    return ways_through(table, prices).least()
 
 
 def count_best(table, prices):
     """How many best orders there are."""
-    return ways_through(table, prices).count_best()
+    ways = ways_through(table, prices)
+    return ways.orders[ways.least()]
 
 
 def nth_best(table, prices, index):
     """The best order with an index."""
     ways = ways_through(table, prices)
-    check_index(index, ways.count_best() - 1)
-    return ways.order_at(index)
+    check_index(index, ways.orders[ways.least()] - 1)
+    return ways.order_at(ways.least(), index)
 
 
 def best_index(table, prices, order):
     """The index of a best order."""
     ways = ways_through(table, prices)
-    if not has_best(ways, order):
+    if not has_sum(ways, order, ways.least()):
         raise BadOrder("not a best order")
     return ways.index_of(order)
 

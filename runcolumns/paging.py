@@ -1,9 +1,9 @@
 """Rows cut into pages, with few runs in each or with few runs in all."""
 
 from runcolumns.common import are_ascending, has_boolean, is_number
-from runcolumns.errors import BadIndex, BadMost, BadPages
+from runcolumns.errors import BadMost, BadPages
 from runcolumns.runs import changes
-from runcolumns.tables import check_table
+from runcolumns.tables import check_stretch, check_table
 
 TOP_LIMIT = 40
 
@@ -156,6 +156,5 @@ def least_total(table, pages):
 def runs_between(table, first, past):
     """The number of the runs of the page of the rows from first on, up to ahead of past."""
     check_table(table)
-    if not is_number(first, 0, len(table) - 1) or not is_number(past, first + 1, len(table)):
-        raise BadIndex("not the first row and the index after the last row of a page")
+    check_stretch(table, first, past)
     return page_runs(table, first, past)

@@ -1,8 +1,8 @@
 """Columns by how often each value occurs, and by how many runs they have."""
 
-from math import comb, gcd
+from math import comb
 
-from runcolumns.common import are_numbers, has_boolean, is_listing, is_number, picked
+from runcolumns.common import are_numbers, has_boolean, is_listing, is_number, lowest_terms, picked
 from runcolumns.errors import BadCounts, BadSizes
 from runcolumns.runs import runs_of_values
 from runcolumns.tables import check_index
@@ -110,8 +110,7 @@ def average_runs(counts):
     check_counts(counts)
     cells = sum(counts)
     # Of all ordered pairs of cells, those with equal values begin no run where they are neighbours.
-    many = cells * (cells + 1) - sum([count * count for count in counts])
-    return many // gcd(many, cells), cells // gcd(many, cells)
+    return lowest_terms(cells * (cells + 1) - sum([count * count for count in counts]), cells)
 
 
 def most_runs(counts):

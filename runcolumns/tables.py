@@ -81,6 +81,13 @@ def check_index(index, highest):
         raise BadIndex("no such index")
 
 
+def check_stretch(table, first, past):
+    """Raise BadIndex if these are not the first row of some neighbouring rows and the index after the last one."""
+    check_index(first, len(table) - 1)
+    if not is_number(past, first + 1, len(table)):
+        raise BadIndex("not the index after the last row")
+
+
 def check_column(table, c):
     """Raise BadColumn if this is no column of the table."""
     if not is_number(c, 0, table.width - 1):

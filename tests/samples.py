@@ -1,6 +1,7 @@
 """Tables, right arguments and wrong ones that several tests use."""
 
 import itertools
+import math
 import random
 
 from runcolumns.live import LiveTable
@@ -100,6 +101,15 @@ def wrong_orders(many):
     return wrong + [(0,) * (many + 1)]
 
 
+def wrong_row_orders(right):
+    """What is not a tuple that contains the same two or more rows, of two columns, each once."""
+    many = len(right)
+    wrong = ODD_OBJECTS + [0, HUGE, (), list(right), right[1:], right + right[:1], right[1:] + right[1:2]]
+    wrong += [tuple(range(many)), [list(row) for row in right], tuple(list(row) for row in right), right * 2]
+    wrong += [right[1:] + (item,) for item in ODD_ITEMS + [(), (0,), (5, 5), (0, 0, 0), (HUGE, 1), 0]]
+    return wrong + [right[1:] + (row,) for item in ODD_ITEMS for row in ((item, 1), (1, item))]
+
+
 def wrong_asks(width):
     """What is not an ask for so many columns."""
     right = ("is", 0, (0,))
@@ -148,6 +158,23 @@ def some_tables(many=40, seed=1, rows=10, width=4, top=6):
     return [table for table in tables if len(table) <= rows]
 
 
+CORNERS = Table([(0, 0), (1, 1), (0, 1)])
+SEVEN = Table([(0, 0), (1, 1), (0, 1), (2, 1), (2, 2), (0, 2), (6, 6), (0, 0), (6, 6)])
+EIGHT = Table([(at % 4, at // 4) for at in range(8)])
+
+
+def different(table):
+    """The different rows of a table, ascending."""
+    return sorted(set(table.rows))
+
+
+def ways_left(table):
+    """All pairs of an ascending tuple of different rows and a different row that is not in it."""
+    rows = different(table)
+    lefts = [left for many in range(len(rows)) for left in itertools.combinations(rows, many)]
+    return [(left, row) for left in lefts for row in rows if row not in left]
+
+
 def few_different(most, **more):
     """Some tables with at most so many different rows."""
     return [table for table in some_tables(**more) if len(set(table.rows)) <= most]
@@ -185,3 +212,35 @@ def whole_cost(rows, prices):
 def grouped_runs(values):
     """The runs of values."""
     return [(value, len(list(equal))) for value, equal in itertools.groupby(values)]
+
+
+def all_counts(cells):
+    """All counts with a sum."""
+    if cells == 0:
+        return [()]
+    return [(many,) + rest for many in range(1, cells + 1) for rest in all_counts(cells - many) if len(rest) < 7]
+
+
+def columns_with(counts):
+    """All columns with some counts, ascending."""
+    if not any(counts):
+        return [()]
+    found = []
+    for value, many in enumerate(counts):
+        if many:
+            fewer = counts[:value] + (many - 1,) + counts[value + 1:]
+            found += [(value,) + rest for rest in columns_with(fewer)]
+    return found
+
+
+def runs_in(column):
+    """The number of the runs of values."""
+    return len(grouped_runs(column))
+
+
+def how_many_columns(counts):
+    """The number of all columns with some counts."""
+    many = math.factorial(sum(counts))
+    for count in counts:
+        many //= math.factorial(count)
+    return many

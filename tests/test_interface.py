@@ -69,6 +69,18 @@ INTERFACE = {
     "together": ["best_groups(table)", "least_grouped(table)", "all_groupings(table)", "count_best_groups(table)",
                  "group_runs(table, places)", "group_cost(table, places)", "grouped_cost(table, groups)",
                  "Grouped(groups, lots)", "Grouped.shows(self, table)"],
+    "allorders": ["orders_by_changes(table, prices)", "average_changes(table, prices)", "worst_order(table, prices)",
+                  "most_changes(table, prices)", "nth_with_changes(table, prices, cost, index)",
+                  "changes_index(table, prices, order)", "Worst(order, rest)", "Worst.shows(self, table, prices)"],
+    "keepsorted": ["best_within(table, prices, place)", "least_within(table, prices, place)",
+                   "cheapest_column(table, prices)", "Within(order, rest)", "Within.shows(self, table, prices, place)"],
+    "luck": ["spread_of_runs(counts)", "chance_of_few(counts, runs)", "tables_by_runs(rows, values)",
+             "count_tables(rows, values, runs)"],
+    "repainting": ["repaint(table, place, runs)", "fewest_repaints(table, place, runs)",
+                   "repaints_by_runs(table, place)", "Repainted(cells, floors)",
+                   "Repainted.shows(self, table, place, runs)"],
+    "allpages": ["page_cost(table, first, past, prices)", "all_cost(table, prices)", "sliding(table, wide, prices)",
+                 "ends_of_most(table, wide, prices)", "quiet(table)"],
 }
 PROPERTIES = {("tables", "Table"): ["width"], ("live", "LiveTable"): ["now", "journal"]}
 

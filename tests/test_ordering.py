@@ -11,7 +11,8 @@ from runcolumns.ordering import (
 from runcolumns.tables import Table
 from tests.cases import Case
 from tests.samples import (
-    HUGE, NO_TABLES, ODD_ITEMS, ODD_OBJECTS, few_different, priced, some_prices, walked, wrong_numbers, wrong_prices,
+    CORNERS, EIGHT, HUGE, NO_TABLES, SEVEN, different, few_different, priced, some_prices, walked, ways_left,
+    wrong_numbers, wrong_prices, wrong_row_orders,
 )
 
 EXAMPLES = """
@@ -24,14 +25,7 @@ EXAMPLES = """
 [3, 2, 6, False]
 """
 
-CORNERS = Table([(0, 0), (1, 1), (0, 1)])
-EIGHT = Table([(at % 4, at // 4) for at in range(8)])
-SEVEN = Table([(0, 0), (1, 1), (0, 1), (2, 1), (2, 2), (0, 2), (6, 6), (0, 0), (6, 6)])
 TABLES = few_different(6, many=40) + few_different(5, many=30, seed=4, width=3, top=2)
-
-
-def different(table):
-    return sorted(set(table.rows))
 
 
 def all_best(table, prices):
@@ -43,14 +37,10 @@ def all_best(table, prices):
 
 def all_rest(table, prices):
     """The whole dict of a Best, by trying all ways."""
-    rows, rest = different(table), {}
-    for many in range(len(rows)):
-        for left in itertools.combinations(rows, many):
-            for row in rows:
-                if row not in left:
-                    ways = itertools.permutations(left)
-                    rest[(left, row)] = min(walked((row,) + way, prices) for way in ways)
-    return rest
+    return {
+        (left, row): min(walked((row,) + way, prices) for way in itertools.permutations(left))
+        for left, row in ways_left(table)
+    }
 
 
 def all_ties(rows):
@@ -252,10 +242,7 @@ class OrderingErrorsTest(Case):
 
     def test_wrong_orders(self):
         best = nth_best(CORNERS, (5, 1), 0)
-        wrong = ODD_OBJECTS + [0, HUGE, (), list(best), best[:2], best + best[:1], best[:2] + best[:1], (0, 1, 2)]
-        wrong += [((0, 1), (0, 0), (1, 1)), [list(row) for row in best], tuple(list(row) for row in best)]
-        wrong += [best[:2] + (item,) for item in ODD_ITEMS + [(), (0,), (5, 5), (1, 1, 1), (HUGE, 1), 0]]
-        wrong += [best[:2] + ((item, 1),) for item in ODD_ITEMS] + [best[:2] + ((1, item),) for item in ODD_ITEMS]
+        wrong = wrong_row_orders(best) + [((0, 1), (0, 0), (1, 1))]
         self.check_arguments(
             best_index, (CORNERS, BadTable, NO_TABLES), ((5, 1), BadPrices, wrong_prices(2)), (best, BadOrder, wrong))
 

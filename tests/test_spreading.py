@@ -2,7 +2,6 @@
 
 import fractions
 import itertools
-import math
 import unittest
 
 from runcolumns.errors import BadCounts, BadIndex, BadSizes
@@ -10,7 +9,9 @@ from runcolumns.spreading import (
     Spread, average_runs, count_columns, count_spread, most_runs, nth_spread, spread, spread_index,
 )
 from tests.cases import Case
-from tests.samples import HUGE, NO_TUPLES, ODD_ITEMS, grouped_runs, wrong_counts, wrong_numbers
+from tests.samples import (
+    HUGE, NO_TUPLES, ODD_ITEMS, all_counts, columns_with, how_many_columns, runs_in, wrong_counts, wrong_numbers,
+)
 
 EXAMPLES = """
 >>> from runcolumns.spreading import Spread, average_runs, count_columns, count_spread, most_runs, nth_spread, spread_index
@@ -26,36 +27,6 @@ LARGE = [
 ]
 
 
-def all_counts(cells):
-    """All counts with a sum."""
-    if cells == 0:
-        return [()]
-    return [(many,) + rest for many in range(1, cells + 1) for rest in all_counts(cells - many) if len(rest) < 7]
-
-
-def all_columns(counts):
-    """All columns with some counts, ascending."""
-    if not any(counts):
-        return [()]
-    found = []
-    for value, many in enumerate(counts):
-        if many:
-            fewer = counts[:value] + (many - 1,) + counts[value + 1:]
-            found += [(value,) + rest for rest in all_columns(fewer)]
-    return found
-
-
-def runs_in(column):
-    return len(grouped_runs(column))
-
-
-def how_many_columns(counts):
-    many = math.factorial(sum(counts))
-    for count in counts:
-        many //= math.factorial(count)
-    return many
-
-
 SMALL = [counts for cells in range(1, 7) for counts in all_counts(cells)]
 
 
@@ -64,9 +35,9 @@ class CountsTest(Case):
     def test_examples(self):
         self.check_examples(EXAMPLES)
 
-    def test_against_all_columns(self):
+    def test_against_columns_with(self):
         for counts in SMALL + [(2, 2, 3), (1, 5, 1), (4, 3), (1,) * 7, (7,), (3, 1, 1, 2)]:
-            columns = all_columns(counts)
+            columns = columns_with(counts)
             numbers = [runs_in(column) for column in columns]
             average = fractions.Fraction(sum(numbers), len(numbers))
             self.assertEqual(average_runs(counts), (average.numerator, average.denominator))
@@ -87,7 +58,7 @@ class CountsTest(Case):
     def test_every_index(self):
         for counts in [(1,), (3,), (2, 2), (1, 2, 1), (1, 1, 1, 1), (3, 2), (2, 1, 2)]:
             for runs in range(1, sum(counts) + 1):
-                columns = [column for column in all_columns(counts) if runs_in(column) == runs]
+                columns = [column for column in columns_with(counts) if runs_in(column) == runs]
                 found = [nth_spread(counts, runs, index) for index in range(count_spread(counts, runs))]
                 self.assertEqual(found, columns)
                 self.assertEqual([spread_index(column) for column in columns], list(range(len(columns))))
@@ -154,7 +125,7 @@ class SpreadTest(Case):
 
     def test_all_columns_are_judged(self):
         for counts in SMALL:
-            columns = all_columns(counts)
+            columns = columns_with(counts)
             most = max(runs_in(column) for column in columns)
             for column in columns[:200]:
                 self.assertEqual(Spread(column).shows(counts), runs_in(column) == most)
