@@ -124,3 +124,40 @@ def way_at(before, index):
         place = before[place][at]
         way = (place,) + way
     return way
+
+
+def floors_from(first, nexts):
+    """The dict from the first state and all that can come after it to the least cost of going on to an end.
+
+    nexts gives, for a state, the list of the pairs of a state right after it and what going there costs. All ways
+    to a state have the same number of steps.
+    """
+    layers = [[first]]
+    while layers[-1]:
+        after = {then: True for state in layers[-1] for then, step in nexts(state)}
+        layers.append(list(after))
+    floors = {}
+    for layer in layers[::-1]:
+        for state in layer:
+            floors[state] = min([step + floors[then] for then, step in nexts(state)], default=0)
+    return floors
+
+
+def cheapest_path(first, floors, nexts):
+    """The list of the states of a cheapest way from the first one to an end, by such a dict."""
+    path = [first]
+    while nexts(path[-1]):
+        least = floors[path[-1]]
+        path.append([then for then, step in nexts(path[-1]) if step + floors[then] == least][0])
+    return path
+
+
+def are_floors(floors, nexts):
+    """Whether no integer of a state is greater than what going on costs, and all states that come next are there."""
+    for state, floor in floors.items():
+        afters = nexts(state)
+        if not afters and floor > 0:
+            return False
+        if any([then not in floors or floor > step + floors[then] for then, step in afters]):
+            return False
+    return True

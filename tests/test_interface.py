@@ -81,6 +81,18 @@ INTERFACE = {
                    "Repainted.shows(self, table, place, runs)"],
     "allpages": ["page_cost(table, first, past, prices)", "all_cost(table, prices)", "sliding(table, wide, prices)",
                  "ends_of_most(table, wide, prices)", "quiet(table)"],
+    "thinning": ["thin(table, c, many)", "fewest_thinned(table, c, many)", "most_thinned(table, c, many)",
+                 "count_thinned(table, c, many)", "Thinned(kept, floors)", "Thinned.shows(self, table, c, many)"],
+    "seams": ["best_seams(pieces, prices)", "least_seams(pieces, prices)", "put_together_best(pieces, prices)",
+              "Seamed(plan, floors)", "Seamed.shows(self, pieces, prices)"],
+    "joins": ["join_pairs(one, other)", "join_count(one, other)", "join_runs(one, other)", "join_looks(one, other)",
+              "lonely(one, other)", "join_groups(one, other, c, d)"],
+    "rounds": ["around_cost(table, prices)", "best_begins(table, prices)", "least_around(table, prices)",
+               "turned_to(table, first)", "period(table)", "least_turn(table)", "are_one_ring(one, other)",
+               "count_rings(many, values, changes)"],
+    "ranks": ["count_of(table, c, value)", "far_from(table, c, value)", "rank_at(table, c, value, index)",
+              "row_with(table, c, value, number)", "nth_value(table, c, number)", "middles(table, c)",
+              "frequent(table, c)", "majority(table, c)"],
 }
 PROPERTIES = {("tables", "Table"): ["width"], ("live", "LiveTable"): ["now", "journal"]}
 
