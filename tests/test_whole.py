@@ -30,6 +30,7 @@ from tests.samples import ODD_OBJECTS, Rough, different, priced, some_tables
 from tests.test_interface import INTERFACE
 
 START = Table([(1, 0), (0, 0), (1, 0), (0, 2), (1, 1)])
+RISING = Table([(0, 1), (1, 2), (0, 0), (1, 5)])
 MANY_DIFFERENT = Table([(at % 3, at // 3) for at in range(8)])
 
 
@@ -41,15 +42,22 @@ def all_calls(table):
 
 
 def with_booleans(held):
-    """What is held with one 0 or 1 in it turned into False or True, in all ways."""
+    """What is held with one 0 or 1 in it turned into False or True, or the other way round, in all ways."""
     if isinstance(held, (list, tuple)):
         found = []
         for at, part in enumerate(held):
             found += [type(held)(list(held[:at]) + [other] + list(held[at + 1:])) for other in with_booleans(part)]
         return found
-    if isinstance(held, int) and not isinstance(held, bool) and held in (0, 1):
-        return [bool(held)]
-    return []
+    if isinstance(held, dict):
+        found = []
+        for key, worth in held.items():
+            for other in with_booleans((key, worth)):
+                found.append({(other[0] if name == key else name): held[name] for name in held})
+                found[-1][other[0]] = other[1]
+        return found
+    if held is True or held is False:
+        return [int(held)]
+    return [bool(held)] if isinstance(held, int) and held in (0, 1) else []
 
 
 class ConventionsTest(Case):
@@ -135,6 +143,21 @@ class ConventionsTest(Case):
                 for wrong in with_booleans(arguments):
                     with self.assertRaises(ColumnError, msg=f"shows of {name}{wrong}"):
                         found.shows(*wrong)
+
+    def test_booleans_in_evidence(self):
+        judged, kinds = 0, set()
+        for name, found, arguments in evidence_of(START) + evidence_of(RISING):
+            kinds.add(type(found).__name__)
+            for attribute, right in list(vars(found).items()):
+                for wrong in with_booleans(right):
+                    self.assertEqual(wrong, right)
+                    setattr(found, attribute, wrong)
+                    self.assertIs(found.shows(*arguments), False, (name, attribute, wrong))
+                    judged += 1
+                setattr(found, attribute, right)
+            self.assertIs(found.shows(*arguments), True, name)
+        self.assertGreater(judged, 500)
+        self.assertEqual(len(kinds), 27)
 
     def test_equal_to_nothing_else(self):
         things = [Table([(0,)]), LiveTable(Table([(0,)]))]
