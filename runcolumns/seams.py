@@ -104,9 +104,9 @@ def next_states(pieces, prices, state):
 
 def choice_between(pieces, state, then):
     """The pair of the piece that is appended from one state to the next, and whether it is turned."""
-    index = [index for index in state[0] if index not in then[0]][0]
+    gone = [index for index in state[0] if index not in then[0]][0]
     # A piece that ends with its first row begins with its last row, so its seams cost the same if it is not turned.
-    return index, pieces[index].rows[-1] != then[1]
+    return gone, pieces[gone].rows[-1] != then[1]
 
 
 def best_seams(pieces, prices):
